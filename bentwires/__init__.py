@@ -1,0 +1,1 @@
+"""Bentwires: drawings on wires that tell what can stand at once."""
