@@ -40,7 +40,8 @@ def reduced(p, rows):
 
 def cleared(p, row, lead, place):
     """The row, brought to 0 at a place by a row that has a 1 there."""
-    return added(p, row, -row[place], lead)
+    # Most rows are 0 there already, and working these out again is what would take long.
+    return added(p, row, -row[place], lead) if row[place] != 0 else row
 
 
 def first_place(row):
