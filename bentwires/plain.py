@@ -2,7 +2,7 @@
 
 from bentwires.errors import Late
 from bentwires.rows import reduced
-from bentwires.words import folded, wires
+from bentwires.words import all_folded, wires
 
 # The reduced list of what each box lets by; that of `times` hangs on its number.
 BOX_ROWS = {
@@ -19,9 +19,19 @@ BOX_ROWS = {
 
 def plain(p, words):
     """The plain form of a drawing without `late`."""
+    return forms(p, words)[0][2]
+
+
+def forms(p, words):
+    """The form of each drawing within a drawing without `late`, by the place of its first word."""
+    refuse_late(words)
+    return all_folded(words, lambda place, word, parts: form(p, word, parts))
+
+
+def refuse_late(words):
+    """Refuses a drawing with `late`."""
     if "late" in words:
-        raise Late("a drawing with late has no plain form")
-    return folded(words, lambda place, word, parts: form(p, word, parts))[2]
+        raise Late("a drawing with late does not tell by itself what it lets by")
 
 
 def form(p, word, parts):
@@ -52,11 +62,21 @@ def form_of_beside(p, one, other):
 
 def form_of_then(p, one, other):
     """The form of a drawing with another one behind it."""
+    between = one[1]
+    # In a reduced list the rows that begin with noughts at the wires between span all sums that do, and are reduced
+    # themselves.
+    met = [row[between:] for row in reduced(p, facing(p, one, other)) if not any(row[:between])]
+    return (one[0], other[1], tuple(met))
+
+
+def facing(p, one, other):
+    """The rows of two forms, one behind the other: at the wires between, the left wires and the right ones.
+
+    Those of the second are taken with -1 between: so a sum of these rows has noughts there just where both drawings
+    have the same numbers there.
+    """
     left = one[0]
     between = one[1]
     ahead = [row[left:] + row[:left] + (0,) * other[1] for row in one[2]]
     behind = [tuple([-number % p for number in row[:between]]) + (0,) * left + row[between:] for row in other[2]]
-    # A sum of these rows has noughts at the wires between just where both drawings have the same numbers there.
-    # In a reduced list the rows that begin with these noughts span all such sums, and are reduced themselves.
-    met = [row[between:] for row in reduced(p, ahead + behind) if not any(row[:between])]
-    return (left, other[1], tuple(met))
+    return ahead + behind

@@ -3,11 +3,11 @@
 
 def turned(p, number):
     """The number whose product with this one, which is not 0, is 1."""
-    product = 1
+    power = 1
     # A number taken p - 1 times as a factor comes to 1, so one time less comes to what is asked.
     for step in range(p - 2):
-        product = product * number % p
-    return product
+        power = power * number % p
+    return power
 
 
 def added(p, row, factor, other):
@@ -21,6 +21,11 @@ def summed(p, rows, factors, length):
     for row, factor in zip(rows, factors):
         total = added(p, total, factor, row)
     return total
+
+
+def product(p, row, other):
+    """The product of two rows: number by number, added up."""
+    return sum([number * more for number, more in zip(row, other)]) % p
 
 
 def reduced(p, rows):

@@ -78,11 +78,17 @@ def parts_fit(words):
 
 
 def folded(words, made):
-    """What a drawing comes to, where made(place, word, parts) is what the one at a place comes to by its parts.
+    """What a drawing comes to, where made(place, word, parts) is what the one at a place comes to by its parts."""
+    return all_folded(words, made)[0]
+
+
+def all_folded(words, made):
+    """What each drawing within a drawing comes to, by the place of its first word.
 
     The words are taken from the last to the first: so the parts are there ahead of what they make up, and no
     drawing is too deep.
     """
+    told = {}
     values = []
     for place in range(len(words) - 1, -1, -1):
         word = words[place]
@@ -90,8 +96,21 @@ def folded(words, made):
             values.append(word)
         else:
             parts = [values.pop() for part in range(PARTS.get(word, 0))]
-            values.append(made(place, word, parts))
-    return values[0]
+            told[place] = made(place, word, parts)
+            values.append(told[place])
+    return told
+
+
+def ends(words):
+    """The place behind the last word of each drawing within a drawing, by the place of its first word."""
+    return all_folded(words, end_of)
+
+
+def end_of(place, word, parts):
+    """The place behind the last word of the drawing at a place, by those of its parts."""
+    if word == "times":
+        return place + 2
+    return parts[-1] if parts else place + 1
 
 
 def measured(words):
@@ -101,20 +120,25 @@ def measured(words):
 
 def measure(place, word, parts):
     """What `measured` tells of the drawing at a place, by what it tells of the parts."""
+    if word in SIDES:
+        return SIDES[word] + (None,)
+    unmet = first_unmet(parts)
+    # The first part ends ahead of the whole; the second ends with it, but lies within: so both come first.
+    if word == "then" and unmet is None and parts[0][1] != parts[1][0]:
+        unmet = place
+    return joined_sides(word, parts) + (unmet,)
+
+
+def joined_sides(word, parts):
+    """How many wires to the left and to the right a joint of parts has, which tell their own ones first."""
     if word == "back":
-        part = parts[0]
-        return (part[1], part[0], part[2])
+        return (parts[0][1], parts[0][0])
     if word == "beside":
-        return (parts[0][0] + parts[1][0], parts[0][1] + parts[1][1], first_unmet(parts))
-    if word == "then":
-        unmet = first_unmet(parts)
-        # The first part ends ahead of the whole; the second ends with it, but lies within: so both come first.
-        if unmet is None and parts[0][1] != parts[1][0]:
-            unmet = place
-        return (parts[0][0], parts[1][1], unmet)
-    return SIDES[word] + (None,)
+        return (parts[0][0] + parts[1][0], parts[0][1] + parts[1][1])
+    return (parts[0][0], parts[1][1])
 
 
 def first_unmet(parts):
-    """The place of the first `then` in two parts whose drawings do not meet, or None."""
-    return parts[1][2] if parts[0][2] is None else parts[0][2]
+    """The place of the first `then` in the parts whose drawings do not meet, or None."""
+    unmet = [part[2] for part in parts if part[2] is not None]
+    return unmet[0] if unmet else None

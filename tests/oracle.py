@@ -126,3 +126,152 @@ def random_drawings(seed, p, count, side, depth):
         random_drawing(source, p, source.randrange(side + 1), source.randrange(side + 1), depth)
         for _ in range(count)
     ]
+
+
+def tree_at(words, at):
+    """The drawing that begins at a word, as a tuple of its word and its parts, and where it ends."""
+    word = words[at]
+    if word == "times":
+        return (word, words[at + 1]), at + 2
+    parts = ()
+    at += 1
+    for _ in range({"back": 1, "beside": 2, "then": 2}.get(word, 0)):
+        part, at = tree_at(words, at)
+        parts += (part,)
+    return (word,) + parts, at
+
+
+def tree_of(words):
+    tree, end = tree_at(words, 0)
+    assert end == len(words)
+    return tree
+
+
+def words_of_tree(tree):
+    flat = ()
+    for part in tree:
+        flat += words_of_tree(part) if isinstance(part, tuple) else (part,)
+    return flat
+
+
+def places_of_trees(words):
+    """All drawings within a drawing, as trees, by the place of their first word."""
+    return {at: tree_at(words, at)[0] for at, word in enumerate(words) if isinstance(word, str)}
+
+
+def tree_sides(tree):
+    if tree[0] == "back":
+        left, right = tree_sides(tree[1])
+        return right, left
+    if tree[0] == "beside":
+        one, other = tree_sides(tree[1]), tree_sides(tree[2])
+        return one[0] + other[0], one[1] + other[1]
+    if tree[0] == "then":
+        return tree_sides(tree[1])[0], tree_sides(tree[2])[1]
+    return SIDES[tree[0]]
+
+
+def tree_inner(tree):
+    """How many inner wires there are [10]."""
+    within = sum(tree_inner(part) for part in tree[1:] if isinstance(part, tuple))
+    return within + tree_sides(tree[1])[1] if tree[0] == "then" else within
+
+
+def tree_stands(p, tree, left, right, setting):
+    """Whether each box is content, word for word as in [10]; the lengths are those asked for."""
+    assert (len(left), len(right)) == tree_sides(tree) and len(setting) == tree_inner(tree)
+    if tree[0] == "back":
+        return tree_stands(p, tree[1], right, left, setting)
+    if tree[0] in ("beside", "then"):
+        one, other = tree[1], tree[2]
+        a, b = tree_sides(one)
+        within = tree_inner(one)
+        if tree[0] == "beside":
+            return (tree_stands(p, one, left[:a], right[:b], setting[:within])
+                    and tree_stands(p, other, left[a:], right[b:], setting[within:]))
+        between = setting[within:within + b]
+        return (tree_stands(p, one, left, between, setting[:within])
+                and tree_stands(p, other, between, right, setting[within + b:]))
+    return box_lets_by(p, tree, left + right)
+
+
+def box_lets_by(p, box, row):
+    """Whether a box lets a row by [8]."""
+    return {
+        "id": lambda a, b: a == b,
+        "swap": lambda a, b, c, d: (a, b) == (d, c),
+        "copy": lambda a, b, c: a == b == c,
+        "end": lambda a: True,
+        "add": lambda a, b, c: (a + b) % p == c,
+        "none": lambda a: a == 0,
+        "times": lambda a, b: box[1] * a % p == b,
+        "cup": lambda a, b: a == b,
+        "empty": lambda: True,
+    }[box[0]](*row)
+
+
+def stands_by_words(p, words, row, setting):
+    tree = tree_of(words)
+    left = tree_sides(tree)[0]
+    return tree_stands(p, tree, row[:left], row[left:], setting)
+
+
+def random_sum(source, p, rows, length):
+    """A row of the span of the rows."""
+    total = (0,) * length
+    for row in rows:
+        factor = source.randrange(p)
+        total = tuple((a + factor * b) % p for a, b in zip(total, row))
+    return total
+
+
+# Boxes by their left wires, of which a layer of a great drawing is made.
+LAYERED = {0: ["none", "cup", "back end"], 1: ["id", "copy", "end", "times", "back times", "back add", "back none"],
+           2: ["swap", "add", "back copy", "back cup", "back swap"]}
+
+
+def random_layer(source, p, left, room):
+    """A layer with as many left wires, and at most as many right ones as there is room for."""
+    while True:
+        words, right, rest = (), 0, left
+        while rest:
+            taken = source.randrange(0, min(rest, 2) + 1)
+            box = tuple(source.choice(LAYERED[taken]).split())
+            box += (source.randrange(p),) if box[-1] == "times" else ()
+            words = ("beside",) + words + box if words else box
+            right += tree_sides(tree_of(box))[1]
+            rest -= taken
+        if left == 0:
+            words, right = ("beside", "cup", "none"), 3
+        if right <= room:
+            return words
+
+
+def great_drawing(seed, p, length, side=8):
+    """A drawing of nearly as many words, no part of which has more wires to a side than told."""
+    source = random.Random(seed)
+    words = random_layer(source, p, source.randrange(side + 1), side)
+    while True:
+        left, right = tree_sides(tree_of(words))
+        if source.randrange(3) == 0:
+            more = ("back",) + random_layer(source, p, left, side)
+            longer = ("then",) + more + words
+        else:
+            longer = ("then",) + words + random_layer(source, p, right, side)
+        if source.randrange(4) == 0:
+            longer = ("back",) + longer
+        if len(longer) > length:
+            return ("back",) * (length - len(words)) + words
+        words = longer
+
+
+def row_unlike(source, p, rows, length):
+    """A row that is not in the span of a reduced list, or None where all rows are."""
+    if len(rows) == length:
+        return None
+    while True:
+        row = tuple(source.randrange(p) for _ in range(length))
+        leads = [next(k for k, number in enumerate(one) if number) for one in rows]
+        asked = tuple(sum(row[lead] * one[k] for lead, one in zip(leads, rows)) % p for k in range(length))
+        if asked != row:
+            return row
