@@ -8,8 +8,7 @@ from bentwires.words import wires
 
 def compared(p, one, other):
     """("same",), or ("parted", row, which) with a row that just one of two drawings lets by, and which one it is."""
-    if wires(one) != wires(other):
-        raise BadSides("the drawings have not as many wires on each side")
+    refuse_sides(wires(one), wires(other))
     first = plain(p, one)
     second = plain(p, other)
     if first == second:
@@ -18,6 +17,12 @@ def compared(p, one, other):
     if row is not None:
         return ("parted", row, 0)
     return ("parted", row_outside(p, second, first), 1)
+
+
+def refuse_sides(one, other):
+    """Refuses two things that have not as many wires on each side, told of each as (left, right)."""
+    if one != other:
+        raise BadSides("the two have not as many wires on each side")
 
 
 def row_outside(p, rows, others):

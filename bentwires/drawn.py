@@ -1,12 +1,14 @@
 """Drawings drawn from a plain form."""
 
+from bentwires.rows import columns
+
 
 def drawn(p, rows, left, right):
     """A drawing with as many left and right wires, whose plain form is a reduced list of rows."""
     count = len(rows)
     # A factor for each row, at the wires between, tells a sum of the rows: its left numbers and its right ones.
-    columns = [tuple([row[place] for row in rows]) for place in range(left + right)]
-    return ("then", "back") + summing(columns[:left], count) + summing(columns[left:], count)
+    sums = columns(rows, left + right)
+    return ("then", "back") + summing(sums[:left], count) + summing(sums[left:], count)
 
 
 def summing(sums, count):

@@ -35,7 +35,11 @@ def refuse_late(words):
 
 
 def form(p, word, parts):
-    """A tuple (left, right, rows) of the wires and the plain form of a drawing, by those of its parts."""
+    """A tuple (left, right, rows) of the wires and the plain form of a drawing, by those of its parts.
+
+    Behind the numbers at its wires the rows of a part may have more, as many in all parts: these are carried along,
+    each at its place.
+    """
     if word == "back":
         return form_of_back(p, parts[0])
     if word == "beside":
@@ -50,12 +54,14 @@ def form(p, word, parts):
 def form_of_back(p, one):
     """The form of a drawing turned about."""
     left = one[0]
-    return (one[1], left, reduced(p, [row[left:] + row[:left] for row in one[2]]))
+    behind = left + one[1]
+    return (one[1], left, reduced(p, [row[left:behind] + row[:left] + row[behind:] for row in one[2]]))
 
 
 def form_of_beside(p, one, other):
     """The form of a drawing above another one."""
-    above = [row[:one[0]] + (0,) * other[0] + row[one[0]:] + (0,) * other[1] for row in one[2]]
+    behind = one[0] + one[1]
+    above = [row[:one[0]] + (0,) * other[0] + row[one[0]:behind] + (0,) * other[1] + row[behind:] for row in one[2]]
     below = [(0,) * one[0] + row[:other[0]] + (0,) * one[1] + row[other[0]:] for row in other[2]]
     return (one[0] + other[0], one[1] + other[1], reduced(p, above + below))
 
@@ -77,6 +83,7 @@ def facing(p, one, other):
     """
     left = one[0]
     between = one[1]
-    ahead = [row[left:] + row[:left] + (0,) * other[1] for row in one[2]]
-    behind = [tuple([-number % p for number in row[:between]]) + (0,) * left + row[between:] for row in other[2]]
-    return ahead + behind
+    behind = left + between
+    ahead = [row[left:behind] + row[:left] + (0,) * other[1] + row[behind:] for row in one[2]]
+    follow = [tuple([-number % p for number in row[:between]]) + (0,) * left + row[between:] for row in other[2]]
+    return ahead + follow

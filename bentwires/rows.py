@@ -28,6 +28,21 @@ def product(p, row, other):
     return sum([number * more for number, more in zip(row, other)]) % p
 
 
+def products(p, rows, other):
+    """The product of each of the rows with another row."""
+    return tuple([product(p, row, other) for row in rows])
+
+
+def ones(count):
+    """The rows of as many numbers with one 1 and else 0 only, by the place of the 1."""
+    return [(0,) * place + (1,) + (0,) * (count - place - 1) for place in range(count)]
+
+
+def columns(rows, length):
+    """The numbers of the rows at each place, as rows of their own; the length is asked for the places of no rows."""
+    return tuple([tuple([row[place] for row in rows]) for place in range(length)])
+
+
 def reduced(p, rows):
     """The one list with the span of these rows that stands in steps, each step a lone 1."""
     done = []
@@ -36,11 +51,16 @@ def reduced(p, rows):
     for place in range(length):
         heads = [row for row in rest if row[place] != 0]
         if heads:
-            lead = summed(p, [heads[0]], [turned(p, heads[0][place])], length)
+            lead = led(p, heads[0], place)
             done = [cleared(p, row, lead, place) for row in done] + [lead]
             # The head itself becomes noughts here, so it is not taken a second time.
             rest = [cleared(p, row, lead, place) for row in rest]
     return tuple(done)
+
+
+def led(p, row, place):
+    """The row, taken with the factor that makes a 1 of its number at a place, which is not 0."""
+    return summed(p, [row], [turned(p, row[place])], len(row))
 
 
 def cleared(p, row, lead, place):
@@ -52,6 +72,17 @@ def cleared(p, row, lead, place):
 def first_place(row):
     """The place of a row's first number that is not 0."""
     return [place for place, number in enumerate(row) if number != 0][0]
+
+
+def rest_of(p, steps, row):
+    """What is left of a row by steps: noughts just where it is in their span.
+
+    Steps are rows that each begin with a 1, and are 0 where those ahead begin.
+    """
+    rest = row
+    for step in steps:
+        rest = cleared(p, rest, step, first_place(step))
+    return rest
 
 
 def factors_of(p, rows, row):

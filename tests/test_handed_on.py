@@ -17,7 +17,7 @@ from bentwires.words import read, shown, wires
 from tests.oracle import (
     PRIMES, great_drawing, let_by, product, random_drawings, random_sum, row_unlike, span, stands_by_words)
 
-# The interface so far: the functions of each module, with the names of their arguments.
+# The interface: the functions of each module, with the names of their arguments.
 INTERFACE = {
     "rows": {"turned": "p number", "summed": "p rows factors length", "reduced": "p rows", "factors_of": "p rows row",
              "barred": "p rows length"},
@@ -27,6 +27,10 @@ INTERFACE = {
     "alike": {"compared": "p one other"},
     "drawn": {"drawn": "p rows left right"},
     "moves": {"moved": "p words at rule", "moves": "p words"},
+    "machines": {"ticks": "p words", "machine": "p words", "run": "p some asked"},
+    "ever": {"same_ever": "p one other", "shows": "p one other paper"},
+    "least": {"least": "p some"},
+    "whole": {"told": "p one other", "answers": "p text asked"},
 }
 
 
